@@ -366,12 +366,20 @@ func TestUndoThatCannotBe(t *testing.T) {
 }
 
 func TestOfTheStackTheUndermostGoes(t *testing.T) {
+	for _, most := range []int{64, 65, 70} {
+		undermost(t, most)
+	}
+}
+
+// undermost asks of a vertex, and so many edits of it, that the last 64 can be undone, and done again.
+func undermost(t *testing.T, most int) {
+	t.Helper()
 	s := server.New()
 	c := New(1)
 	c.Join()
 	settle(t, s, c)
 	edits(t, c, newVertex(1), sent(1, 1, 1, newVertex(1)))
-	for n := 1; n <= 65; n++ {
+	for n := 1; n <= most; n++ {
 		if _, err := c.Edit(setAttr(1, n)); err != api.OK {
 			t.Fatal(err)
 		}
@@ -382,14 +390,14 @@ func TestOfTheStackTheUndermostGoes(t *testing.T) {
 		return v.Attr
 	}
 	for range 2 {
-		for n := 64; n >= 1; n-- {
+		for n := most - 1; n >= most-64; n-- {
 			if _, err := c.Undo(); err != api.OK || attr() != n {
 				t.Fatalf("Undo to %d: %d, %d", n, err, attr())
 			}
 			settle(t, s, c)
 		}
 		cannot(t, c, "Undo", c.Undo, api.ErrNothing)
-		for n := 2; n <= 65; n++ {
+		for n := most - 63; n <= most; n++ {
 			if _, err := c.Redo(); err != api.OK || attr() != n {
 				t.Fatalf("Redo to %d: %d, %d", n, err, attr())
 			}
@@ -648,6 +656,23 @@ func TestCloneGoesItsOwnWay(t *testing.T) {
 	}
 	if digest(New(3).Clone()) != digest(New(3)) {
 		t.Error("the clone of a new one")
+	}
+	// Each has its own room behind what is pending, and upon its stacks.
+	c = joined(t, 1, 1)
+	for n := 1; n <= 5; n++ {
+		c.Edit(newVertex(n))
+	}
+	d = c.Clone()
+	c.Edit(newVertex(6))
+	d.Edit(newVertex(7))
+	was = digest(c)
+	d.Undo()
+	d.Undo()
+	if digest(c) != was {
+		t.Error("what was done of the clone is seen")
+	}
+	if got := c.Pending(); len(got) != 6 || !op.Same(got[5], newVertex(6)) {
+		t.Errorf("%v", got)
 	}
 }
 

@@ -384,6 +384,7 @@ func TestSet(t *testing.T) {
 	}
 	asks(t, []one{
 		{"a vertex's label", s, setLabel(2, false, "x"), with(func(s *api.State) { s.D.Verts[1].Label = "x" }), api.OK},
+		{"the first vertex's label", s, setLabel(1, false, "x"), with(func(s *api.State) { s.D.Verts[0].Label = "x" }), api.OK},
 		{"no label", s, setLabel(2, false, ""), with(func(s *api.State) { s.D.Verts[1].Label = "" }), api.OK},
 		{"the same label", s, setLabel(2, false, "v"), s, api.OK},
 		{"a vertex's attribute", s, setAttr(3, false, -7), with(func(s *api.State) { s.D.Verts[2].Attr = -7 }), api.OK},

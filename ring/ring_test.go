@@ -186,6 +186,7 @@ func TestSwap(t *testing.T) {
 		{row(3, 1, 2), 4, 5, row(1, 2, 3)},
 		{row(3, 1, 2), 3, 2, row(1, 2, 3)},
 		{row(3, 1, 2), 3, 3, row(1, 2, 3)},
+		{row(3, 1, 2), 1, 3, row(1, 2, 3)},
 		{row(1, 2), 2, -1, row(1, -1)},
 	}
 	for _, c := range cases {
